@@ -1,0 +1,1 @@
+"""Deliveries of several goods, settled all at once."""
