@@ -8,7 +8,7 @@ from settledatonce.rules import BELOW_LIMIT, CANNOT_BE, FULL, KEY_TAKEN, NOT_THE
 from settledatonce.rules import OUT_OF_RANGE, TOO_MUCH, TWICE
 from settledatonce.rules import GREATEST_AFTER_DEPOSIT, MOST_ACCOUNTS, MOST_GROUPS, MOST_LEGS, NUMBERS_OF_A_LEG
 from settledatonce.rules import is_amount, is_good, is_key, is_limit, is_place, list_refusal
-from settledatonce.settling import amounts_after, can_go, greatest_set
+from settledatonce.settling import amounts_after, can_go, greatest_set, groups_told
 
 
 def add_account(house, key):
@@ -165,9 +165,7 @@ def go(house, keys):
     refusal = list_refusal(house, keys)
     if refusal != 0:
         return [refusal]
-    chosen = {}
-    for key in keys:
-        chosen[key] = True
+    chosen = groups_told(keys)
     if not can_go(house, chosen):
         return [CANNOT_BE]
     return let_go(house, chosen)

@@ -3,15 +3,17 @@
 from settledatonce.book import House
 from settledatonce.changes import add_account, deposit, set_limit, withdraw
 from settledatonce.changes import add_group, cancel, go, hold, place, settle
-from settledatonce.questions import ready
+from settledatonce.questions import can, has, legs, more, moved, need, ready, row, then, waiting, why, with_all
 
 # By a call's number: how many whole numbers it has ahead of its list.
-WHOLE_NUMBERS = (1, 3, 3, 3, 1, 1, 2, 3, 0, 0, 0)
-# The numbers of the calls that have a list: group and go.
-WITH_A_LIST = (4, 9)
+WHOLE_NUMBERS = (1, 3, 3, 3, 1, 1, 2, 3, 0, 0, 0, 0, 1, 2, 2, 2, 3, 3, 1, 1, 0, 1)
+# The numbers of the calls that have a list: group, go and can.
+WITH_A_LIST = (4, 9, 11)
+# The number of ready: this call and those behind it change nothing.
+FIRST_QUESTION = 10
 
 
-def answer(house, number, told, listed):
+def answer_change(house, number, told, listed):
     if number == 0:
         return add_account(house, told[0])
     if number == 1:
@@ -30,9 +32,39 @@ def answer(house, number, told, listed):
         return place(house, told[0], told[1], told[2])
     if number == 8:
         return settle(house)
-    if number == 9:
-        return go(house, listed)
-    return ready(house)
+    return go(house, listed)
+
+
+def answer_question(house, number, told, listed):
+    if number == 10:
+        return ready(house)
+    if number == 11:
+        return can(house, listed)
+    if number == 12:
+        return why(house, told[0])
+    if number == 13:
+        return has(house, told[0], told[1])
+    if number == 14:
+        return then(house, told[0], told[1])
+    if number == 15:
+        return with_all(house, told[0], told[1])
+    if number == 16:
+        return need(house, told[0], told[1], told[2])
+    if number == 17:
+        return more(house, told[0], told[1], told[2])
+    if number == 18:
+        return row(house, told[0])
+    if number == 19:
+        return legs(house, told[0])
+    if number == 20:
+        return waiting(house)
+    return moved(house, told[0])
+
+
+def answer(house, number, told, listed):
+    if number < FIRST_QUESTION:
+        return answer_change(house, number, told, listed)
+    return answer_question(house, number, told, listed)
 
 
 def answers(calls):

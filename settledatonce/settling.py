@@ -1,9 +1,16 @@
 """Which groups can go at once.
 
-Some groups are told as a dict that has True for the key of each of them.
+Some groups are told as a dict that has the key of each of them.
 """
 
 from settledatonce.rules import GOODS
+
+
+def groups_told(keys):
+    chosen = {}
+    for key in keys:
+        chosen[key] = True
+    return chosen
 
 
 def amounts_after(house, chosen):
@@ -19,12 +26,17 @@ def amounts_after(house, chosen):
 
 
 def short_accounts(house, chosen):
-    """The keys of the accounts that would be below a limit with the chosen groups gone."""
+    """The accounts that would be below a limit with the chosen groups gone, rising.
+
+    Each has the lowest good of which it would be below.
+    """
     after = amounts_after(house, chosen)
-    short = []
-    for key, account in house.accounts.items():
-        if any([after[key][good] < -account.limits[good] for good in GOODS]):
-            short.append(key)
+    short = {}
+    for key in sorted(house.accounts):
+        limits = house.accounts[key].limits
+        below = [good for good in GOODS if after[key][good] < -limits[good]]
+        if len(below) > 0:
+            short[key] = below[0]
     return short
 
 
@@ -59,33 +71,46 @@ def less_blocked(house, chosen):
     return kept
 
 
-def first_set(house):
-    """The set of round 0: no group of it is held or waits behind a held one."""
+def free_groups(house):
     free = {}
     for key, group in house.groups.items():
         if group.held == 0:
             free[key] = True
-    return less_blocked(house, free)
+    return free
+
+
+def touching_groups(house, account_key, chosen):
+    """Those of the chosen groups that touch the account, in its row's order."""
+    return [key for key in house.accounts[account_key].row if key in chosen]
 
 
 def culprits(house, chosen):
-    """The last chosen group in the row of each short account."""
-    last = {}
+    """The last chosen group of each short account; each has the lowest account whose last one it is."""
+    found = {}
     for key in short_accounts(house, chosen):
         # Nobody is below a limit with nothing done, so a short account is touched by a chosen group.
-        touching = [other for other in house.accounts[key].row if other in chosen]
-        last[touching[-1]] = True
-    return last
+        found.setdefault(touching_groups(house, key, chosen)[-1], key)
+    return found
+
+
+def rounds(house, chosen):
+    """The sets of round 0, 1, 2, and so on that come from some groups; the last one has no culprit."""
+    sets = [less_blocked(house, chosen)]
+    away = culprits(house, sets[-1])
+    while len(away) > 0:
+        sets.append(less_blocked(house, less(sets[-1], away)))
+        away = culprits(house, sets[-1])
+    return sets
+
+
+def greatest_within(house, chosen):
+    """The greatest set that can go of some groups, none of which is held."""
+    # A set that can go has a shorter beginning of a short account's row, so it never has the culprit.
+    return rounds(house, chosen)[-1]
 
 
 def greatest_set(house):
-    # A set that can go has a shorter beginning of a short account's row, so it never has the culprit.
-    chosen = first_set(house)
-    away = culprits(house, chosen)
-    while len(away) > 0:
-        chosen = less_blocked(house, less(chosen, away))
-        away = culprits(house, chosen)
-    return chosen
+    return greatest_within(house, free_groups(house))
 
 
 def can_go(house, chosen):

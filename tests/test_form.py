@@ -118,6 +118,23 @@ class FormTest(unittest.TestCase):
                 if isinstance(node.func, ast.Attribute):
                     self.assertIn(node.func.attr, ALLOWED_METHODS, path)
 
+    def test_no_local_is_called_like_a_class_or_an_import_of_its_file(self):
+        for path in FILES:
+            taken = {alias.name for node in nodes_of(path, ast.ImportFrom) for alias in node.names}
+            taken |= {node.name for node in nodes_of(path, ast.ClassDef)}
+            bound = {node.arg for node in nodes_of(path, ast.arg)}
+            bound |= {node.id for node in nodes_of(path, ast.Name) if isinstance(node.ctx, ast.Store)}
+            self.assertEqual(taken & bound, set(), path)
+
+    def test_each_name_is_bound_once_at_the_top_and_used(self):
+        for path in FILES:
+            names = defined_in(path) + [alias.name for node in nodes_of(path, ast.ImportFrom) for alias in node.names]
+            self.assertEqual(len(names), len(set(names)), path)
+            used = {node.id for node in nodes_of(path, ast.Name) if isinstance(node.ctx, ast.Load)}
+            for node in nodes_of(path, ast.ImportFrom):
+                for alias in node.names:
+                    self.assertIn(alias.name, used, path)
+
     def test_the_top_of_a_file(self):
         for path in FILES:
             body = tree_of(path).body
